@@ -1,0 +1,1 @@
+"""Bringhome: words that bring rooms together."""
