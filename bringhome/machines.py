@@ -39,6 +39,11 @@ def is_set(machine, thing):
     return all([one < other for one, other in zip(thing, thing[1:])])
 
 
+def is_within(rooms, goal):
+    """Whether all rooms of a set are in another one."""
+    return all([room in goal for room in rooms])
+
+
 def renamed(machine, order):
     """The machine whose room k is the room order[k] of this one, with the same ways."""
     new_names = {room: at for at, room in enumerate(order)}

@@ -6,6 +6,15 @@ ONE_ROOM = ((0,),)
 # Letter 0 goes round; letter 1 leads room 3 to room 0 and stays else.
 ROUND = ((1, 0), (2, 1), (3, 2), (0, 0))
 HALL = ((1, 0, 2), (1, 2, 0), (0, 0, 0))
+# Letters that only exchange rooms: a round of four, and two neighbours that change places.
+EXCHANGE = ((1, 1), (2, 0), (3, 2), (0, 3))
+# Two parts, rooms 0 to 2 and rooms 3 and 4, that no letter leaves; each of them comes to one room.
+PARTS = ((1, 0), (2, 0), (0, 2), (4, 3), (4, 4))
+
+
+def round_machine(rooms):
+    """Cerny's machine of so many rooms: (rooms - 1) squared letters, no fewer, bring all its rooms to one."""
+    return tuple(((room + 1) % rooms, room if room < rooms - 1 else 0) for room in range(rooms))
 
 
 def small_machines(most_rooms=3, most_letters=2):
@@ -46,6 +55,21 @@ def words_of(machine, longest):
     return [word for length in range(longest + 1) for word in product(letters, repeat=length)]
 
 
+def all_rooms(machine):
+    """The set of all rooms of a machine."""
+    return tuple(range(len(machine)))
+
+
+def goal_by_hand(machine, rooms, word):
+    """The set to which a word brings rooms, reckoned room by room."""
+    goals = set()
+    for here in rooms:
+        for letter in word:
+            here = machine[here][letter]
+        goals.add(here)
+    return tuple(sorted(goals))
+
+
 def is_told(thing):
     """Whether thing is built of tuples, whole numbers, texts, truths and None alone."""
     if type(thing) is tuple:
@@ -60,8 +84,29 @@ def nested(depth, wrap, core):
     return core
 
 
+def changed_in_one_place(thing, others):
+    """All things that are like a nest of tuples but for one place, where they have one of the others."""
+    for other in others:
+        if not (type(other) is type(thing) and other == thing):
+            yield other
+    if type(thing) is tuple:
+        for at, part in enumerate(thing):
+            for changed in changed_in_one_place(part, others):
+                yield thing[:at] + (changed,) + thing[at + 1:]
+
+
 class Odd:
     """An object of a kind of which the program knows nothing."""
+
+
+class Stubborn:
+    """An object that can be neither compared, counted, walked nor a key."""
+
+    def refuse(self, *things):
+        raise RuntimeError("not to be asked")
+
+    __eq__ = __ne__ = __lt__ = __le__ = __gt__ = __ge__ = __hash__ = refuse
+    __len__ = __iter__ = __getitem__ = __contains__ = __bool__ = __int__ = __index__ = __str__ = __repr__ = refuse
 
 
 def odd_things():
@@ -76,9 +121,10 @@ def odd_things():
         "", "a", "hall cellar hall", "0", b"", b"\x00", bytearray(b"\x00"),
         [], [0], [[0]], [(0,)], [(0, 1), (1, 0)], {}, {0: 0}, {0: (0,)}, {0, 1}, set(), frozenset({0}),
         range(1), range(0), iter([0]), (room for room in (0,)), zip((0,)), {0: 0}.keys(), {0: 0}.values(),
-        memoryview(b"\x00"), slice(0, 1), Ellipsis, NotImplemented, object(), Odd, Odd(), len, int, tuple,
+        memoryview(b"\x00"), slice(0, 1), Ellipsis, NotImplemented, object(), Odd, Odd(), Stubborn(), len, int, tuple,
         lambda: 0, ValueError("x"),
         (None,), (True,), (False,), ("",), ("a",), ("0",), (b"\x00",), (0.0,), (1.0,), (0j,), (Ellipsis,), (object(),),
+        (Stubborn(),), (Stubborn(), Stubborn()), ((Stubborn(),),),
         (-1,), (10 ** 1000,), (-10 ** 1000,), ([0],), ([],), ({},), ({0},), ((),), ((), ()), (range(1),),
         (((0,),),), ((0,), 0), (0, (0,)), ((0,), None), (None, (0,)),
     ] + deep
