@@ -39,6 +39,11 @@ def is_set(machine, thing):
     return all([one < other for one, other in zip(thing, thing[1:])])
 
 
+def all_rooms(machine):
+    """The set of all rooms of the machine."""
+    return tuple(range(len(machine)))
+
+
 def is_within(rooms, goal):
     """Whether all rooms of a set are in another one."""
     return all([room in goal for room in rooms])

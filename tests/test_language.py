@@ -26,6 +26,16 @@ BANNED_NAMES = set("""
     methodcaller os quit setattr super sys vars
 """.split())
 
+OWN_METHODS = set("""
+    append clear copy count endswith extend find get index insert isalnum isalpha isdigit islower isspace isupper items
+    join keys ljust lower lstrip partition pop remove replace reverse rfind rjust rpartition rsplit rstrip setdefault
+    split splitlines startswith strip update upper values zfill bit_length
+""".split())
+
+WALKED = {"zip", "enumerate", "reversed", "range", "items", "keys", "values"}
+WALKERS = {"list", "tuple", "dict", "sorted", "sum", "any", "all", "enumerate", "zip", "bytes", "min", "max"}
+SET_HOLDERS = {"sorted", "len"}
+
 BANNED_NODES = (
     ast.GeneratorExp, ast.NamedExpr, ast.With, ast.Match, ast.Global, ast.Nonlocal, ast.Yield, ast.YieldFrom, ast.Await,
     ast.AsyncFunctionDef, ast.AsyncFor, ast.AsyncWith, ast.Div, ast.MatMult, ast.Import,
@@ -41,6 +51,20 @@ def nodes(kind):
         for node in ast.walk(ast.parse(file.read_text())):
             if isinstance(node, kind):
                 yield f"{file.name}:{getattr(node, 'lineno', 0)}", node
+
+
+def call_name(node):
+    """The name by which a call calls, or nothing."""
+    if not isinstance(node, ast.Call):
+        return ""
+    return node.func.id if isinstance(node.func, ast.Name) else getattr(node.func, "attr", "")
+
+
+def held():
+    """Each node with the one that holds it."""
+    for at, node in nodes(ast.AST):
+        for part in ast.iter_child_nodes(node):
+            yield at, part, node
 
 
 def bound_names():
@@ -122,6 +146,43 @@ class Forms(unittest.TestCase):
             for sign, right in zip(node.ops, node.comparators):
                 if isinstance(sign, (ast.Is, ast.IsNot)):
                     self.assertTrue(isinstance(right, ast.Constant) and right.value in (None, True, False), at)
+
+    def test_methods_that_are_called(self):
+        for at, node in nodes(ast.Call):
+            if isinstance(node.func, ast.Attribute):
+                self.assertIn(node.func.attr, OWN_METHODS, at)
+
+    def test_what_is_walked_is_not_kept(self):
+        for at, node, holder in held():
+            if call_name(node) in WALKED:
+                walks = isinstance(holder, (ast.For, ast.comprehension)) and holder.iter is node
+                self.assertTrue(walks or (call_name(holder) in WALKERS and node is holder.args[0]), at)
+
+    def test_a_set_is_asked_on_the_spot(self):
+        for at, node, holder in held():
+            if isinstance(node, (ast.Set, ast.SetComp)) or call_name(node) == "set":
+                self.assertTrue(call_name(holder) in SET_HOLDERS or isinstance(holder, ast.Compare), at)
+
+    def test_no_name_of_the_top_or_of_an_import_is_given_anew(self):
+        for file in files():
+            tree = ast.parse(file.read_text())
+            drawn = [alias.name for row in tree.body if isinstance(row, ast.ImportFrom) for alias in row.names]
+            top = drawn + [row.name for row in tree.body if isinstance(row, (ast.FunctionDef, ast.ClassDef))]
+            self.assertEqual(len(top), len(set(top)), file.name)
+            for node in ast.walk(tree):
+                name = node.arg if isinstance(node, ast.arg) else getattr(node, "id", "")
+                if isinstance(node, ast.arg) or isinstance(getattr(node, "ctx", None), ast.Store):
+                    self.assertNotIn(name, top, f"{file.name}:{node.lineno}")
+
+    def test_names_are_drawn_from_the_file_that_defines_them(self):
+        for file in files():
+            for row in ast.parse(file.read_text()).body:
+                if isinstance(row, ast.ImportFrom):
+                    source = ast.parse((PACKAGE / (row.module.split(".")[1] + ".py")).read_text())
+                    made = [other.name for other in source.body if isinstance(other, (ast.FunctionDef, ast.ClassDef))]
+                    for alias in row.names:
+                        self.assertIn(alias.name, made, file.name)
+                        self.assertIsNone(alias.asname, file.name)
 
     def test_defs_and_classes(self):
         for at, node in nodes(ast.FunctionDef):
