@@ -8,7 +8,8 @@ from bringhome.levels import least_word
 from bringhome.machines import is_word, renamed
 from bringhome.pairs import apart, ladder, together
 from samples import (
-    EXCHANGE, HALL, ONE_ROOM, PARTS, ROUND, goal_by_hand, is_told, made_machine, round_machine, small_machines, words_of,
+    EXCHANGE, HALL, ONE_ROOM, PARTS, ROUND, goal_by_hand, is_told, made_machine, round_machine, small_machines,
+    words_of,
 )
 
 # Letters 0 and 1 lead each pair of 26 rooms to another pair; letters 2 to 5 stay.
