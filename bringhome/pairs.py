@@ -21,11 +21,12 @@ def ways_back(machine):
     return sources
 
 
-def lengths(machine):
-    """The dict from each set of one room to 0, and from each pair that words bring together to the least length."""
+def lengths_to(machine, goals):
+    """The dict from each goal, a set of one room or a pair, to 0, and from each other pair that words lead to one to
+    the least length of these words."""
     sources = ways_back(machine)
-    level = [(room,) for room in range(len(machine))]
-    found = {goal: 0 for goal in level}
+    level = goals
+    found = {goal: 0 for goal in goals}
     while level:
         behind = []
         for goal in level:
@@ -37,25 +38,35 @@ def lengths(machine):
     return found
 
 
+def lengths(machine):
+    """The dict from each set of one room to 0, and from each pair that words bring together to the least length."""
+    return lengths_to(machine, [(room,) for room in range(len(machine))])
+
+
 def first_letter(machine, pair, found):
-    """The first letter with which a shortest word that brings the pair together begins."""
+    """The first letter with which a shortest word that leads the pair to a goal begins, found the lengths to these."""
     goals = [stepped(machine, pair, letter) for letter in range(len(machine[0]))]
     return min([letter for letter, goal in enumerate(goals) if goal in found and found[goal] == found[pair] - 1])
 
 
-def rungs(machine):
-    """The dict from each pair that some word brings together to the length and the first letter of its together."""
-    found = lengths(machine)
-    pairs = [pair for pair in pairs_of(all_rooms(machine)) if pair in found]
+def rungs_to(machine, found):
+    """The dict from each pair that words lead to a goal, and that is none itself, to the length and the first letter
+    of the first of the shortest, found the lengths to these goals."""
+    pairs = [pair for pair in pairs_of(all_rooms(machine)) if found.get(pair, 0) > 0]
     return {pair: (found[pair], first_letter(machine, pair, found)) for pair in pairs}
 
 
+def rungs(machine):
+    """The dict from each pair that some word brings together to the length and the first letter of its together."""
+    return rungs_to(machine, lengths(machine))
+
+
 def climbed(machine, steps, pair):
-    """The word that brings the pair together, steps the rungs of the machine."""
+    """The word that leads the pair to a goal, steps the rungs to these goals."""
     # Each first letter is the least that leads one rung down, so no word as short stands ahead of this one.
     word = []
     here = pair
-    while len(here) == 2:
+    while here in steps:
         letter = steps[here][1]
         word.append(letter)
         here = stepped(machine, here, letter)

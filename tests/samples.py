@@ -1,6 +1,6 @@
 """Machines, words and odd things that several test files ask of the program."""
 
-from itertools import combinations, product
+from itertools import combinations, combinations_with_replacement, product
 
 ONE_ROOM = ((0,),)
 # Letter 0 goes round; letter 1 leads room 3 to room 0 and stays else.
@@ -10,6 +10,11 @@ HALL = ((1, 0, 2), (1, 2, 0), (0, 0, 0))
 EXCHANGE = ((1, 1), (2, 0), (3, 2), (0, 3))
 # Two parts, rooms 0 to 2 and rooms 3 and 4, that no letter leaves; each of them comes to one room.
 PARTS = ((1, 0), (2, 0), (0, 2), (4, 3), (4, 4))
+# Letters 0 and 1 lead each pair of 26 rooms to another pair; letters 2 to 5 stay.
+WIDE_EXCHANGE = tuple(((room + 1) % 26, (room * 5) % 26, room, room, room, room) for room in range(26))
+# Rooms of like parity come together and others never: each letter keeps or turns all parities.
+PARITY = tuple(((room + 1) % 26, room if room < 24 else room - 24, room % 2, (room + 2) % 26, 25 - room, room)
+               for room in range(26))
 
 
 def round_machine(rooms):
@@ -22,6 +27,14 @@ def small_machines(most_rooms=3, most_letters=2):
     for rooms in range(1, most_rooms + 1):
         for letters in range(1, most_letters + 1):
             rows = list(product(range(rooms), repeat=letters))
+            yield from product(rows, repeat=rooms)
+
+
+def small_webs(most_rooms=3, most_ways=3):
+    """All webs of at most so many rooms and ways."""
+    for rooms in range(1, most_rooms + 1):
+        for ways in range(1, most_ways + 1):
+            rows = list(combinations_with_replacement(range(rooms), ways))
             yield from product(rows, repeat=rooms)
 
 
@@ -41,6 +54,42 @@ def made_machine(rooms, letters, seed):
 def made_word(letters, length, seed):
     """A word of so many letters of an alphabet, the same for the same numbers."""
     return tuple(row[0] % letters for row in made_machine(max(length, 1), 1, seed))[:length]
+
+
+def wide_machines():
+    """Machines of 26 rooms and 6 letters."""
+    return [WIDE_EXCHANGE, PARITY, tuple(row * 3 for row in round_machine(26))] + [
+        made_machine(26, 6, seed) for seed in range(4)]
+
+
+def with_copies(machine, copied, seed):
+    """A machine with a room for each of copied, rooms of this one, each at least once: it goes on as that one does,
+    to whichever copy."""
+    strewn = made_machine(len(copied), len(machine[0]), seed)
+    copies = [[at for at, room in enumerate(copied) if room == old] for old in range(len(machine))]
+    return tuple(tuple(copies[goal][pick % len(copies[goal])] for goal, pick in zip(machine[room], strewn[at]))
+                 for at, room in enumerate(copied))
+
+
+def copied_rooms(rooms, many, seed):
+    """Each of so many rooms once, and rooms of them again, so that there are many in all."""
+    return tuple(range(rooms)) + tuple(row[0] % rooms for row in made_machine(many, 1, seed))[:many - rooms]
+
+
+def partings_of(many):
+    """All partings of so many rooms."""
+    if many == 0:
+        yield ()
+        return
+    for ahead in partings_of(many - 1):
+        for number in range(max(ahead, default=-1) + 2):
+            yield ahead + (number,)
+
+
+def parted(marks):
+    """The parting that has rooms of like marks together."""
+    firsts = list(dict.fromkeys(marks))
+    return tuple(firsts.index(mark) for mark in marks)
 
 
 def sets_of(machine):

@@ -8,21 +8,9 @@ from bringhome.levels import least_word
 from bringhome.machines import is_word, renamed
 from bringhome.pairs import apart, ladder, together
 from samples import (
-    EXCHANGE, HALL, ONE_ROOM, PARTS, ROUND, goal_by_hand, is_told, made_machine, round_machine, small_machines,
-    words_of,
+    EXCHANGE, HALL, ONE_ROOM, PARITY, PARTS, ROUND, WIDE_EXCHANGE, goal_by_hand, is_told, made_machine, round_machine,
+    small_machines, wide_machines, words_of,
 )
-
-# Letters 0 and 1 lead each pair of 26 rooms to another pair; letters 2 to 5 stay.
-WIDE_EXCHANGE = tuple(((room + 1) % 26, (room * 5) % 26, room, room, room, room) for room in range(26))
-# Rooms of like parity come together and others never: each letter keeps or turns all parities.
-PARITY = tuple(((room + 1) % 26, room if room < 24 else room - 24, room % 2, (room + 2) % 26, 25 - room, room)
-               for room in range(26))
-
-
-def wide_machines():
-    """Machines of 26 rooms and 6 letters."""
-    return [WIDE_EXCHANGE, PARITY, tuple(row * 3 for row in round_machine(26))] + [
-        made_machine(26, 6, seed) for seed in range(4)]
 
 
 def pairs_by_hand(machine):
