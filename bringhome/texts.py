@@ -29,6 +29,11 @@ def rows_in(text):
     return [(at, words) for at, words in rows if words]
 
 
+def rows_many(text):
+    """How many rows the text has, with words or without."""
+    return len(text.split("\n"))
+
+
 def row_fault(words, due, ahead):
     """The word for the fault of a room's row, or None; due is its count of words, ahead holds the names ahead."""
     if not all([is_name(word) for word in words]):
@@ -53,17 +58,21 @@ def numbered(rows):
     return rooms
 
 
+def machine_of(rows, rooms):
+    """The machine of these rows, rooms the dict from names to rooms; refuses the first row with another name."""
+    for at, words in rows:
+        if not all([word in rooms for word in words]):
+            raise NoMachine(at, "room")
+    return tuple([tuple([rooms[word] for word in words[1:]]) for at, words in rows])
+
+
 def read_machine(text):
     """The machine that the text writes, and the tuple of its names."""
     rows = rows_in(text)
     rooms = numbered(rows)
-    for at, words in rows:
-        if not all([word in rooms for word in words]):
-            raise NoMachine(at, "room")
     if not rows:
-        raise NoMachine(len(text.split("\n")), "none")
-    machine = tuple([tuple([rooms[word] for word in words[1:]]) for at, words in rows])
-    return machine, tuple(rooms)
+        raise NoMachine(rows_many(text), "none")
+    return machine_of(rows, rooms), tuple(rooms)
 
 
 def machine_text(machine, names):

@@ -92,6 +92,81 @@ def parted(marks):
     return tuple(firsts.index(mark) for mark in marks)
 
 
+class Drawn:
+    """Numbers that look strewn, the same for the same seed."""
+
+    def __init__(self, seed):
+        self.state = seed * 7919 + 17
+
+    def below(self, many):
+        self.state = (self.state * 1103515245 + 12345) % 2147483648
+        return (self.state >> 8) % many
+
+    def one_of(self, things):
+        return things[self.below(len(things))]
+
+    def shuffled(self, things):
+        left, turned = list(things), []
+        while left:
+            turned.append(left.pop(self.below(len(left))))
+        return turned
+
+
+def web_by_hand(rows):
+    """The web with these ways of its rooms."""
+    return tuple(tuple(sorted(row)) for row in rows)
+
+
+def turning_web(rooms, ways, beat, seed):
+    """A web each way of which leads from one of so many phases to the next."""
+    drawn = Drawn(seed)
+    phases = drawn.shuffled([at % beat for at in range(rooms)])
+    halls = [[room for room in range(rooms) if phases[room] == phase] for phase in range(beat)]
+    return web_by_hand([drawn.one_of(halls[(phase + 1) % beat]) for _ in range(ways)] for phase in phases)
+
+
+def exchanging_web(rooms, ways, seed):
+    """A web as many ways of which lead to each room as from it."""
+    drawn = Drawn(seed)
+    orders = [drawn.shuffled(range(rooms)) for _ in range(ways)]
+    return web_by_hand(zip(*orders))
+
+
+def copied_web(rooms, many, ways, seed):
+    """A web of which rooms are copies of one another."""
+    return web_by_hand(with_copies(made_machine(rooms, ways, seed), copied_rooms(rooms, many, seed), seed))
+
+
+def split_web(sizes, outside, ways, seed):
+    """A web with parts of these sizes that no way leaves, and rooms outside of them, called in a strewn order."""
+    drawn = Drawn(seed)
+    many = sum(sizes) + outside
+    rows = []
+    for size in sizes:
+        begin = len(rows)
+        # One way goes round the part, so that ways lead from each room of it to each.
+        rows += [[begin + (at + 1) % size] + [begin + drawn.below(size) for _ in range(ways - 1)] for at in range(size)]
+    for at in range(outside):
+        rows.append([drawn.below(sum(sizes))] + [drawn.below(many) for _ in range(ways - 1)])
+    order = drawn.shuffled(range(many))
+    return web_by_hand([order.index(goal) for goal in rows[old]] for old in order)
+
+
+def strewn_webs():
+    """Webs of one to eight rooms and one to three ways, of several kinds."""
+    webs = []
+    for seed in range(24):
+        rooms, ways = 1 + seed % 8, 1 + seed // 8
+        webs.append(web_by_hand(made_machine(rooms, ways, seed)))
+        webs.append(exchanging_web(rooms, ways, seed))
+        webs += [turning_web(rooms, ways, beat, seed) for beat in (1, 2, 3, 4) if beat <= rooms]
+        webs += [copied_web(old, rooms, ways, seed) for old in (1, 2, 3) if old <= rooms]
+    for seed, sizes in enumerate([(1, 1), (2, 1), (2, 2), (3, 1, 1), (4, 2), (3, 3), (1, 1, 1, 1), (5, 2), (2, 2, 2)]):
+        for outside in range(9 - sum(sizes)):
+            webs += [split_web(sizes, outside, ways, seed) for ways in (1, 2, 3)]
+    return webs
+
+
 def sets_of(machine):
     """All sets of a machine."""
     rooms = range(len(machine))

@@ -109,8 +109,8 @@ class IsParting(unittest.TestCase):
     def test_truths_and_lists(self):
         for thing in ((False, 1, 2), (0, True, 2), (False, True, 2), (0, 0, True), (0, 0, False), (0, 0.0, 1),
                       [0, 1, 2], ([0], 1, 2), ((0,), 1, 2), "012", ("0", "1", "2"), range(3), {0: 0, 1: 1, 2: 2},
-                      iter((0, 1, 2)), {0, 1, 2}, b"\x00\x01\x02", bytearray(3), (None, 0, 1), (0, None, 1), (Stubborn(), 0, 0),
-                      (0, Stubborn(), 0), (0, 0, Stubborn()), Stubborn()):
+                      iter((0, 1, 2)), {0, 1, 2}, b"\x00\x01\x02", bytearray(3), (None, 0, 1), (0, None, 1),
+                      (Stubborn(), 0, 0), (0, Stubborn(), 0), (0, 0, Stubborn()), Stubborn()):
             self.says(False, HALL, thing)
 
     def test_anything_else(self):
